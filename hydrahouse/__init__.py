@@ -1,0 +1,1 @@
+"""Hydrahouse: numbers beyond all counting, and what falls."""
