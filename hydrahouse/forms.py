@@ -46,25 +46,11 @@ def raised(exponent, times=1):
 
 
 def compare(a, b):
-    for mine, other in zip(a, b):
-        if mine != other:
-            return compare_parts(mine, other)
-    return compare_wholes(len(a), len(b))
-
-
-def compare_parts(mine, other):
-    by_exponent = compare(mine[0], other[0])
-    if by_exponent != 0:
-        return by_exponent
-    return compare_wholes(mine[1], other[1])
-
-
-def compare_wholes(n, m):
-    if n < m:
-        return -1
-    if n > m:
-        return 1
-    return 0
+    if a == b:
+        return 0
+    # Python's own order of tuples is the order of numbers: the first unlike parts settle it,
+    # by their exponents ahead of their times, and what ends first is the lesser one.
+    return -1 if a < b else 1
 
 
 def whole_part(a):

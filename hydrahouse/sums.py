@@ -8,14 +8,24 @@ def plus(a, b):
     if b == ():
         return a
     exponent = b[0][0]
-    # From the end: a long sum is then not walked anew for each number put behind it.
-    stay = len(a)
-    while stay > 0 and compare(a[stay - 1][0], exponent) < 0:
-        stay = stay - 1
-    if stay > 0 and a[stay - 1][0] == exponent:
-        both = (exponent, a[stay - 1][1] + b[0][1])
-        return a[:stay - 1] + (both,) + b[1:]
+    stay = parts_above(a, exponent)
+    if stay < len(a) and a[stay][0] == exponent:
+        both = (exponent, a[stay][1] + b[0][1])
+        return a[:stay] + (both,) + b[1:]
     return a[:stay] + b
+
+
+def parts_above(a, exponent):
+    # By halving, as exponents fall: a long sum is then not walked anew for each number put behind it.
+    low = 0
+    high = len(a)
+    while low < high:
+        middle = (low + high) // 2
+        if compare(a[middle][0], exponent) > 0:
+            low = middle + 1
+        else:
+            high = middle
+    return low
 
 
 def total(some):

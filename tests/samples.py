@@ -47,6 +47,52 @@ RISING = [
 ]
 
 
+def number(text):
+    # a number from its text, as in w^(w+1)*2+w^3+w*5+7, its parts as they stand there
+    return () if text == "0" else tuple([part_of(part) for part in text_parts(text)])
+
+
+def text_parts(text):
+    parts = [""]
+    within = 0
+    for sign in text:
+        within += (sign == "(") - (sign == ")")
+        if sign == "+" and within == 0:
+            parts.append("")
+        else:
+            parts[-1] += sign
+    return parts
+
+
+def part_of(text):
+    if text.isdigit():
+        return ((), int(text))
+    ahead, star, behind = text.rpartition("*")
+    if not behind.isdigit():
+        ahead, behind = text, "1"
+    exponent = ahead[2:] or "1"
+    if exponent.startswith("("):
+        exponent = exponent[1:-1]
+    return (number(exponent), int(behind))
+
+
+def choices(exponents, most, times):
+    # each number of at most so many parts, of exponents that rise in their list
+    found = [()]
+    for exponent in exponents:
+        found += [((exponent, n),) + a for a in found if len(a) < most for n in times]
+    return found
+
+
+EXPONENTS = [number(text) for text in ["0", "1", "2", "w", "w+1", "w*2", "w^2", "w^w"]]
+# Each number of at most two parts, of these exponents, each once or three times.
+MIXED = choices(EXPONENTS, 2, [1, 3])
+
+
+def named(*numbers):
+    return {"numbers": str(numbers)[:200]}
+
+
 def tower(height):
     # w to (w to (.. w)): nested one deeper than it is high
     found = ONE

@@ -120,6 +120,35 @@ class Language(unittest.TestCase):
             if isinstance(node, ast.Attribute):
                 self.assertNotIn(node.attr, UNUSED, place)
 
+    def test_no_local_is_called_like_an_import_or_a_class(self):  # L15
+        for path in FILES:
+            tree = ast.parse(read(path))
+            taken = [alias.name for node in tree.body if isinstance(node, ast.ImportFrom) for alias in node.names]
+            taken += [node.name for node in tree.body if isinstance(node, ast.ClassDef)]
+            for node in ast.walk(tree):
+                if isinstance(node, ast.arg):
+                    self.assertNotIn(node.arg, taken, f"{path.name}:{node.lineno}")
+                if isinstance(node, ast.Name) and isinstance(node.ctx, ast.Store):
+                    self.assertNotIn(node.id, taken, f"{path.name}:{node.lineno}")
+
+    def test_no_two_files_draw_from_one_another(self):  # L16
+        drawn = {}
+        for path in FILES:
+            found = [node.module for node in ast.parse(read(path)).body if isinstance(node, ast.ImportFrom)]
+            drawn["hydrahouse." + path.stem] = found
+        settled = []
+        for step in FILES:
+            settled += [name for name in drawn if name not in settled and set(drawn[name]) <= set(settled)]
+        self.assertEqual(sorted(settled), sorted(drawn))
+
+    def test_powers_and_texts(self):  # L27
+        for place, node in nodes():
+            if isinstance(node, ast.BinOp) and isinstance(node.op, ast.Pow):
+                self.assertIsInstance(node.right, ast.Constant, place)
+                self.assertIn(node.right.value, range(65), place)
+            if isinstance(node, ast.Constant) and isinstance(node.value, str):
+                self.assertNotIn("%", node.value, place)
+
     def test_is_beside_plain_values_alone(self):  # L20
         for place, node in nodes():
             if isinstance(node, ast.Compare) and isinstance(node.ops[0], (ast.Is, ast.IsNot)):

@@ -6,7 +6,7 @@ from hydrahouse import sums
 from hydrahouse.errors import TooHigh
 from hydrahouse.forms import compare, is_number
 from hydrahouse.sums import common, merged, minus, plus, total
-from samples import FIVE, ONE, RISING, TWO, W, W_W, ZERO, broad, tower
+from samples import FIVE, ONE, RISING, TWO, W, W_W, ZERO, broad, named, tower
 
 W_1 = ((ONE, 1), ((), 1))
 SQUARE = ((TWO, 1),)
@@ -17,10 +17,6 @@ def some_times(a, n):
     for step in range(n):
         found = plus(found, a)
     return found
-
-
-def named(*numbers):
-    return {"numbers": str(numbers)[:200]}
 
 
 class Interface(unittest.TestCase):
