@@ -26,6 +26,9 @@ OWN_METHODS = set(
     "items join keys ljust lower lstrip partition pop remove replace reverse rfind rjust rpartition rsplit rstrip "
     "setdefault split splitlines startswith strip update upper values zfill bit_length".split()
 )
+FREE_VALUES = set("count index title find get join lower upper split strip copy add".split())
+WALKED = "zip enumerate reversed range items keys values".split()
+WALKING = "list tuple dict sorted sum any all enumerate zip min max".split()
 TWO_UNDERSCORES = ["__init__", "__eq__", "__repr__", "__str__", "__len__"]
 WORDS = (
     "type typing typing_extensions enum Enum IntEnum StrEnum Flag IntFlag Generic Protocol ABC ABCMeta namedtuple "
@@ -94,6 +97,44 @@ class Language(unittest.TestCase):
                 self.assertEqual(node.finalbody, [], place)
             if isinstance(node, ast.Constant):
                 self.assertIsInstance(node.value, (int, str, bool, type(None)), place)
+
+    def test_classes(self):  # L5, L18, L21, L26
+        methods = set()
+        values = set()
+        for place, node in nodes():
+            if isinstance(node, ast.ClassDef):
+                self.assertLessEqual(len(node.bases), 1, place)
+                self.assertEqual(node.keywords, [], place)
+                own = [row.name for row in node.body if isinstance(row, ast.FunctionDef)]
+                self.assertEqual(len(own), len(set(own)), place)
+                self.assertTrue(own or [row.__class__ for row in node.body] == [ast.Pass], place)
+                self.assertTrue(all(isinstance(row, (ast.FunctionDef, ast.Pass)) for row in node.body), place)
+                methods |= set(own) - set(TWO_UNDERSCORES)
+            if isinstance(node, ast.Attribute) and isinstance(node.ctx, ast.Store):
+                values.add(node.attr)
+            if isinstance(node, (ast.FunctionDef, ast.arg)):
+                self.assertIsNone(getattr(node, "returns", None) or getattr(node, "annotation", None), place)
+        self.assertEqual(methods & values, set())
+        pythons_own = set(name for kind in (str, int, list, tuple, dict, set, bytes) for name in dir(kind))
+        self.assertEqual(values & pythons_own - FREE_VALUES, set())
+        self.assertEqual(methods & pythons_own - OWN_METHODS - {"add", "discard"}, set())
+
+    def test_walked_at_once(self):  # L23
+        for path in FILES:
+            tree = ast.parse(read(path))
+            on_the_spot = []
+            for node in ast.walk(tree):
+                if isinstance(node, (ast.For, ast.comprehension)):
+                    on_the_spot.append(node.iter)
+                if isinstance(node, ast.Call) and getattr(node.func, "id", "") in WALKING:
+                    on_the_spot += node.args[:1]
+                if isinstance(node, ast.Call) and getattr(node.func, "attr", "") == "join":
+                    on_the_spot += node.args
+            for node in ast.walk(tree):
+                if isinstance(node, ast.Call):
+                    name = getattr(node.func, "id", "") or getattr(node.func, "attr", "")
+                    if name in WALKED:
+                        self.assertIn(node, on_the_spot, f"{path.name}:{node.lineno}")
 
     def test_imports(self):  # L2, L16
         for path in FILES:
