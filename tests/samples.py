@@ -112,3 +112,9 @@ NO_WHOLES = [
     -1, -10 ** 399, True, False, None, "", "1", "one", (), (1,), (((), 1),), [], [1], {}, {1: 1},
     1.0, 0.0, 1.5, float("nan"), float("inf"), 1j, b"1", set(), frozenset([1]), object(), int, len, range(3),
 ]
+
+# What is no text, of many kinds.
+NO_TEXTS = [
+    True, False, None, 0, 1, -1, 10 ** 399, (), (((), 1),), ("w",), [], ["w"], ["0"], {}, {"w": 1}, {"0": 0}, 1.0, b"w",
+    b"0", b"()", bytearray(b"w"), set(), frozenset(["w"]), object(), str, len, range(3), float("nan"), 1j,
+]

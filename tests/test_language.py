@@ -59,6 +59,15 @@ def bound_names():
             yield place, node.name
 
 
+def is_plain(node, functions, outmost):
+    # a plain value; a list or a dict only as the outmost
+    if isinstance(node, ast.Dict) and outmost:
+        return all(is_plain(part, functions, False) for part in node.keys + node.values)
+    if isinstance(node, ast.Tuple) or isinstance(node, ast.List) and outmost:
+        return all(is_plain(part, functions, False) for part in node.elts)
+    return isinstance(node, ast.Constant) or isinstance(node, ast.Name) and node.id in functions
+
+
 class Language(unittest.TestCase):
     def test_files(self):  # L1, L14
         self.assertIn(PACKAGE / "__init__.py", FILES)
@@ -144,7 +153,7 @@ class Language(unittest.TestCase):
                     self.assertRegex(node.module, r"\Ahydrahouse\.[a-z]+\Z", path.name)
                     source = read(PACKAGE / (node.module.split(".")[1] + ".py"))
                     for alias in node.names:
-                        self.assertRegex(source, rf"(?m)^(def|class) {alias.name}\b", path.name)
+                        self.assertRegex(source, rf"(?m)^((def|class) {alias.name}\b|{alias.name} = )", path.name)
 
     def test_names(self):  # L8, L12, L15, L17, L25
         defined = set(name for place, name in bound_names())
@@ -181,6 +190,31 @@ class Language(unittest.TestCase):
         for step in FILES:
             settled += [name for name in drawn if name not in settled and set(drawn[name]) <= set(settled)]
         self.assertEqual(sorted(settled), sorted(drawn))
+
+    def test_tops(self):  # L3, L15
+        for path in FILES:
+            functions = []
+            bound = []
+            for place, row in enumerate(ast.parse(read(path)).body):
+                if isinstance(row, ast.FunctionDef):
+                    functions.append(row.name)
+                    bound.append(row.name)
+                elif isinstance(row, ast.ClassDef):
+                    bound.append(row.name)
+                elif isinstance(row, ast.ImportFrom):
+                    bound += [alias.name for alias in row.names]
+                elif isinstance(row, ast.Assign):
+                    self.assertTrue(is_plain(row.value, functions, True), f"{path.name}:{row.lineno}")
+                    bound += [target.id for target in row.targets]
+                else:
+                    self.assertTrue(place == 0 and isinstance(row.value, ast.Constant), f"{path.name}:{row.lineno}")
+            self.assertEqual(len(bound), len(set(bound)), path.name)
+
+    def test_texts_with_braces(self):  # L7
+        for place, node in nodes():
+            if isinstance(node, ast.FormattedValue):
+                self.assertIsInstance(node.value, ast.Name, place)
+                self.assertIsNone(node.format_spec, place)
 
     def test_powers_and_texts(self):  # L27
         for place, node in nodes():
