@@ -303,6 +303,11 @@ class TooGreatOnes(Case):
         self.assert_refused(TooGreat, read, "w^(w*2)*x", {"x": parts(100) + ONE})
         self.assert_reaches("w^x", {"x": parts(199) + ONE}, (parts_in_all, 400))
         self.assert_refused(TooGreat, read, "w^x", {"x": parts(200)})
+        names = {"at": broad(201)[:-1], "above": broad(201)}
+        self.assertEqual([parts_in_all(a) for a in names.values()], [400, 401])
+        for text in ["{}+0", "0+{}", "{}*1", "1*{}", "1+{}"]:
+            self.assert_reaches(text.replace("{}", "at"), names, (parts_in_all, 400))
+            self.assert_refused(TooGreat, read, text.replace("{}", "above"), names)
         # 17 parts and their exponents but one for the 1: by 12 factors 12 times 16 and one, by 13 too many
         self.assert_reaches("(x+1)^12", {"x": parts(16)}, (parts_in_all, 12 * 16 * 2 + 1))
         self.assert_refused(TooGreat, read, "(x+1)^13", {"x": parts(16)})
@@ -339,6 +344,18 @@ class TooGreatOnes(Case):
         self.assertEqual(read(f"{great}^5*99999"), (((), 99999 * 10 ** 295),))
         self.assert_refused(TooGreat, read, f"{great}^6")
         self.assertEqual(read(f"{great}^5"), (((), 10 ** 295),))
+        fifty = "1" + "0" * 50
+        self.assertEqual(read(f"{'9' * 50}^6"), (((), (10 ** 50 - 1) ** 6),))
+        self.assertEqual(read(f"{SIXTY}^5"), (((), (10 ** 60 - 1) ** 5),))
+        self.assertEqual(len(str((10 ** 50 - 1) ** 6)), 300)
+        self.assertEqual(len(str((10 ** 60 - 1) ** 5)), 300)
+        self.assert_refused(TooGreat, read, f"{fifty}^6")
+        self.assertEqual(read(f"w^w*{fifty}^5*{'9' * 50}"), ((W, (10 ** 50 - 1) * 10 ** 250),))
+        self.assert_refused(TooGreat, read, f"w^w*{fifty}^5*{fifty}")
+        for text in ["{}+0", "0+{}", "{}*1", "1*{}"]:
+            self.assertEqual(read(text.replace("{}", "x"), {"x": ((W, 10 ** 300 - 1), ((), 1))}), ((W, 10 ** 300 - 1), ((), 1)))
+            self.assert_refused(TooGreat, read, text.replace("{}", "x"), {"x": ((W, 10 ** 300), ((), 1))})
+            self.assert_refused(TooGreat, read, text.replace("{}", "x"), {"x": (((((), 10 ** 300),), 1),)})
 
     def test_40_and_41_deep(self):
         names = {"t": tower(38), "u": tower(39)}
@@ -351,6 +368,9 @@ class TooGreatOnes(Case):
             with self.subTest(good=good, bad=bad):
                 self.assertEqual(read(good, names), value_of(good, names))
                 self.assert_refused(TooGreat, read, bad, names)
+        for text in ["{}+0", "0+{}", "{}*1", "1*{}", "1+{}"]:
+            self.assertEqual(read(text.replace("{}", "u"), names), tower(39))
+            self.assert_refused(TooGreat, read, text.replace("{}", "u"), {"u": tower(40)})
         self.assertEqual(deep(read("w^t", names)), 40)
         self.assertEqual(deep(read("w^t+w^t", names)), 40)
 
